@@ -1,0 +1,1 @@
+"""Hearths: a fire carried through a house without rings."""
