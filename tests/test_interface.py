@@ -1,0 +1,73 @@
+import importlib
+import inspect
+import unittest
+
+ROWS = """
+houses: beside(house, room)
+ways: way(house, one, other); least_way(house, some); meeting(house, one, other, third); behind(house, room, other)
+woods: is_woods(house, thing); spread(house, woods, one, other)
+fires: is_fire(house, woods, thing); first_of(house, woods, fire); lit_from(house, woods, fire); \
+burnt_out(house, woods, fire)
+books: is_book(house, thing); fits(house, woods, book, fire); part_book(house, book, some)
+otherhouses: part_of(house, some); built_on(house, room, name); joined_by(one, other, room, far); renamed(house, names)
+twohours: between(house, woods, first, one, other); rooms_for(house, woods, one, other, hours); \
+apart_by(house, woods, one, other)
+builtfires: fire_for(house, woods, book); paper_for(house, woods, book); is_paper(house, woods, book, thing)
+hourspans: keeps_to(house, woods, spans, fire); fire_within(house, woods, spans); span_paper(house, woods, spans); \
+is_span_paper(house, woods, spans, thing); rooms_within(house, woods, spans)
+claimlists: can_all_be(house, woods, claims); claim_clash(house, woods, claims)
+mostclaims: most_right(house, woods, claims); right_ones(house, woods, claims); fire_of_most(house, woods, claims); \
+always_right(house, woods, claims); always_false(house, woods, claims)
+firstrooms: first_paper(house, woods, book, first); early_from(house, woods, book, first); \
+late_from(house, woods, book, first); hours_from(house, woods, book, first, room); first_rooms(house, woods, book); \
+begin_hours(house, woods, book); door_ways(house, woods, book)
+firsthours: could_be(house, woods, book, room); earliest_hours(house, woods, book); \
+latest_hours(house, woods, book); sure_hours(house, woods, book); telling_hours(house, woods, book, room); \
+begun_hours(house, woods, book); begun_first(house, woods, book); begun_last(house, woods, book)
+steps: steps_of(house, woods, fire); fire_by(house, woods, first, steps)
+firecounts: count_fires(house, woods); count_from(house, woods, room); last_counts(house, woods); \
+count_lit_by(house, woods, hours); fire_lit_at(house, woods, hours)
+firenumbers: fire_at(house, woods, number); fire_number(house, woods, fire); next_fire(house, woods, fire); \
+drawn_fire(house, woods, chooser)
+fittings: count_fitting(house, woods, book); count_by_first(house, woods, book); \
+hour_counts(house, woods, book, room)
+fittingnumbers: fitting_at(house, woods, book, number); fitting_number(house, woods, book, fire)
+lengths: fire_length(house, woods, fire); burning(house, woods, fire, hour); most_burning(house, woods, fire); \
+lengths_from(house, woods, first); length_fire(house, woods, first, length); all_lengths(house, woods); \
+short_fire(house, woods, length); too_far(house, woods, length)
+"""
+
+
+class Interface(unittest.TestCase):
+    """[2]: names, order of parameters, and the file in which each stands"""
+
+    def test_functions(self):
+        many = 0
+        for row in ROWS.strip().split("\n"):
+            place, _, calls = row.partition(": ")
+            module = importlib.import_module(f"hearths.{place}")
+            for told in calls.split("; "):
+                name, _, rest = told.partition("(")
+                call = getattr(module, name)
+                self.assertEqual(f"({rest}", str(inspect.signature(call)))
+                self.assertEqual(call.__module__, module.__name__)
+                self.assertTrue(inspect.isfunction(call))
+                many += 1
+        self.assertEqual(many, 75)
+
+    def test_house(self):
+        from hearths.houses import House
+        self.assertEqual(str(inspect.signature(House)), "(rooms, doors)")
+        self.assertEqual(House.__module__, "hearths.houses")
+        for name in ("__init__", "rooms", "doors", "__len__", "__eq__"):
+            self.assertIn(name, vars(House))
+
+    def test_called_by_names(self):
+        from hearths.houses import House
+        from hearths.twohours import between
+        house = House(rooms=["a", "b"], doors=[("a", "b")])
+        self.assertEqual(between(other="b", one="a", first="a", woods={"a": 2, "b": 1}, house=house), (1, 2))
+
+
+if __name__ == "__main__":
+    unittest.main()
