@@ -4,7 +4,7 @@ from hearths.books import need_woods_and_book
 from hearths.builtfires import spans_of
 from hearths.hourspans import early_fire_in, firsts_within, late_fire_in, pair_against
 from hearths.houses import need_room
-from hearths.twohours import Seen
+from hearths.twohours import seen_from
 from hearths.ways import ahead_from
 
 
@@ -13,7 +13,7 @@ def first_paper(house, woods, book, first):
     need_room(house, first)
     if pair_against(ahead_from(house, first), woods, spans_of(book)) is None:
         return None
-    seen = Seen(house, woods, first)
+    seen = seen_from(house, woods, first)
     noted = sorted(list(book))
     for at, one in enumerate(noted):
         for other in noted[at + 1:]:

@@ -89,29 +89,35 @@ def counts_by_first(house, woods, book):
     return {first: begun[first] for first in begun if begun[first] > 0}
 
 
-def _counts_of_room(house, woods, book, room):
-    """The counts of all fires that fit by the hour of a room.
+def counts_of_room(house, woods, alone, closed, room):
+    """The counts of all fires by the hour of a room, alone telling the counts of each room alone.
 
-    Of each branch they are made of two: those of fires that come in to it by its door, and those of
-    fires that are made within. In the latter fire is made in its own room, or comes from one of the
-    branches behind and goes on to all others.
+    Closed are the hours, if any, at which none goes through a door, for both its directions; they are for
+    counts that all hang on the hour. Of each branch counts are made of two: those of fires that come in to
+    it by its door, and those of fires that are made within. In the latter fire is made in its own room, or
+    comes from one of the branches behind and goes on to all others.
     """
     near = rooms_near(house)
     ahead = ahead_from(house, room)
     coming = {}
     made = {}
     for here in reversed(list(ahead)):
-        into = noted_counts(book, here)
-        out = {} if here in book else 0
+        into = alone[here]
+        out = {} if isinstance(into, dict) else 0
         for far in near[here]:
             if far != ahead[here]:
-                onward = shifted_sums(coming[far], 1, woods[here])
-                backward = shifted_sums(made[far], -woods[far], -1)
+                hours = closed.get((here, far), {})
+                onward = shifted_sums(_without(coming[far], hours), 1, woods[here])
+                backward = _without(shifted_sums(made[far], -woods[far], -1), hours)
                 out = plus(times(out, onward), times(into, backward))
                 into = times(into, onward)
         coming[here] = into
         made[here] = plus(into, out)
     return made[room]
+
+
+def _without(counts, hours):
+    return {hour: counts[hour] for hour in counts if hour not in hours} if len(hours) > 0 else counts
 
 
 def count_fitting(house, woods, book):
@@ -127,4 +133,5 @@ def count_by_first(house, woods, book):
 def hour_counts(house, woods, book, room):
     need_told(house, woods, book)
     need_room(house, room)
-    return ascending(_counts_of_room(house, woods, book, room))
+    alone = {here: noted_counts(book, here) for here in house.rooms()}
+    return ascending(counts_of_room(house, woods, alone, {}, room))

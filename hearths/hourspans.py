@@ -3,7 +3,8 @@
 from hearths.errors import BadSpans
 from hearths.fires import need_fire
 from hearths.houses import is_room
-from hearths.plain import ascending, bad_index, is_span
+from hearths.plain import bad_index, is_span
+from hearths.stepspans import early_by_steps, fire_steps, late_by_steps, pair_off_steps
 from hearths.ways import ahead_from
 from hearths.woods import need_woods
 
@@ -23,31 +24,9 @@ def need_spans(house, woods, spans):
         raise BadSpans(spans)
 
 
-def ends_beyond(ahead, woods, spans):
-    """Between which hours each room must be lit for the spans of itself and of what lies behind it.
-
-    A pair of dicts from the rooms of which anything is told so, to the least and to the greatest hour,
-    each in a pair with the room whose span tells it.
-    """
-    low = {room: (span[0], room) for room, span in spans.items()}
-    high = {room: (span[1], room) for room, span in spans.items()}
-    for room in reversed(list(ahead)):
-        before = ahead[room]
-        if before is not None and room in low:
-            least = (low[room][0] - woods[before], low[room][1])
-            most = (high[room][0] - 1, high[room][1])
-            low[before] = max(least, low.get(before, least))
-            high[before] = min(most, high.get(before, most))
-    return low, high
-
-
 def pair_against(ahead, woods, spans):
     """Two rooms whose spans no fire with this first room keeps, None if some fire keeps to all."""
-    low, high = ends_beyond(ahead, woods, spans)
-    for room in reversed(list(ahead)):
-        if room in low and low[room][0] > high[room][0]:
-            return sorted([low[room][1], high[room][1]])
-    return None
+    return pair_off_steps(ahead, fire_steps(ahead, woods), spans)
 
 
 def early_fire_in(ahead, woods, spans):
@@ -55,32 +34,12 @@ def early_fire_in(ahead, woods, spans):
 
     There must be one. Without spans the first hour is 0.
     """
-    low, _ = ends_beyond(ahead, woods, spans)
-    fire = {}
-    for room, before in ahead.items():
-        soonest = 0 if before is None else fire[before] + 1
-        if room not in low:
-            fire[room] = soonest
-        elif before is None:
-            fire[room] = low[room][0]
-        else:
-            fire[room] = max(soonest, low[room][0])
-    return ascending(fire)
+    return early_by_steps(ahead, fire_steps(ahead, woods), spans)
 
 
 def late_fire_in(ahead, woods, spans):
     """As early_fire_in, but each hour as late as can be."""
-    _, high = ends_beyond(ahead, woods, spans)
-    fire = {}
-    for room, before in ahead.items():
-        latest = 0 if before is None else fire[before] + woods[before]
-        if room not in high:
-            fire[room] = latest
-        elif before is None:
-            fire[room] = high[room][0]
-        else:
-            fire[room] = min(latest, high[room][0])
-    return ascending(fire)
+    return late_by_steps(ahead, fire_steps(ahead, woods), spans)
 
 
 def firsts_within(house, woods, spans):

@@ -26,8 +26,9 @@ BARRED = (ast.AsyncFunctionDef, ast.Global, ast.Nonlocal, ast.Try, ast.With, ast
           ast.SetComp)
 STATEMENTS = (ast.FunctionDef, ast.ClassDef, ast.Return, ast.Assign, ast.AugAssign, ast.For, ast.While, ast.If,
               ast.Raise, ast.ImportFrom, ast.Expr, ast.Pass, ast.Break, ast.Continue)
+LIBRARY = {"itertools": {"product", "combinations", "permutations"}, "math": {"gcd", "lcm", "isqrt", "comb"}}
 AT_ONCE = {"range", "zip", "enumerate", "reversed", "map"}
-TAKING = {"list", "tuple", "dict", "sorted", "sum", "any", "all", "enumerate", "zip"}
+TAKING = {"combinations", "list", "tuple", "dict", "sorted", "sum", "any", "all", "enumerate", "zip"}
 NO_STARTS = ("_wall", "_pe_", "_dcw_", "_enum_", "_cm_", "_twin_re_", "_lay_", "_law_", "_stub_", "_sre", "_cold",
              "_tuplegetter", "_outside", "_record", "_written_out", "_member_names", "__")
 
@@ -118,6 +119,9 @@ def check_imports(file, files):
     used = {node.id for node in ast.walk(file.tree) if isinstance(node, ast.Name)}
     for node in ast.walk(file.tree):
         if isinstance(node, ast.ImportFrom):
+            if node.module in LIBRARY and not node.level:
+                check_library(file, node, used)
+                continue
             target = files.get(f"{(node.module or '').removeprefix('hearths.')}.py")
             if node.level or target is None or not node.module.startswith("hearths."):
                 file.say("L2", node, "an import from outside of the package")
@@ -131,10 +135,23 @@ def check_imports(file, files):
                     file.say("own rule", node, f"{alias.name} is not used")
 
 
+def check_library(file, node, used):
+    """Names of the library are only called, by position; products are gone through at once."""
+    for alias in node.names:
+        if alias.name not in LIBRARY[node.module] or alias.asname or alias.name not in used:
+            file.say("L2", node, f"{alias.name} is barred, renamed or not used")
+        for name in [part for part in ast.walk(file.tree) if isinstance(part, ast.Name) and part.id == alias.name]:
+            call = file.parents[name]
+            if not isinstance(call, ast.Call) or call.func is not name or call.keywords:
+                file.say("L2", name, f"{alias.name} is not called at once, by position")
+            elif node.module == "itertools" and not isinstance(file.parents[call], (ast.For, ast.comprehension)):
+                file.say("L2", name, f"{alias.name} is not gone through at once")
+
+
 def check_rings(files):
     """What files import from one another in a ring."""
-    ahead = {name: {f"{module.removeprefix('hearths.')}.py" for module in file.imports.values()}
-             for name, file in files.items()}
+    ahead = {name: {f"{module.removeprefix('hearths.')}.py" for module in file.imports.values()
+                    if module not in LIBRARY} for name, file in files.items()}
     while True:
         free = [name for name in ahead if not ahead[name] & set(ahead)]
         if not free:
@@ -295,6 +312,8 @@ def check_calls(file, files):
         if not isinstance(node, ast.Call) or not isinstance(node.func, ast.Name):
             continue
         name = node.func.id
+        if file.imports.get(name) in LIBRARY:
+            continue
         home = files[f"{file.imports[name].removeprefix('hearths.')}.py"] if name in file.imports else file
         if name in home.functions:
             takes = len(home.functions[name].args.args)

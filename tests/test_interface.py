@@ -35,6 +35,28 @@ fittingnumbers: fitting_at(house, woods, book, number); fitting_number(house, wo
 lengths: fire_length(house, woods, fire); burning(house, woods, fire, hour); most_burning(house, woods, fire); \
 lengths_from(house, woods, first); length_fire(house, woods, first, length); all_lengths(house, woods); \
 short_fire(house, woods, length); too_far(house, woods, length)
+lastones: last_fire(house, woods, first, room); outlasting(house, woods, first, room); last_ones(house, woods)
+booklengths: lengths_by(house, woods, book, first); lengths_of_book(house, woods, book); \
+fitting_fire(house, woods, book, length)
+atonce: at_once(house, woods, some); not_at_once(house, woods, some); most_at_once(house, woods); \
+crowded_fire(house, woods)
+morewood: cheapest_more(house, woods, prices, length); cheapest_less(house, woods, prices, length)
+sayings: broken_ones(house, woods, sayings, fire); early_fire(house, woods, first, sayings); \
+late_fire(house, woods, first, sayings); ring_by(house, woods, first, sayings); \
+is_ring_by(house, woods, first, sayings, thing)
+closest: bounds(house, woods, first, sayings, one, other); row_by(house, woods, first, sayings, one, other); \
+ahead_word(house, woods, first, sayings, one, other); sure_ahead(house, woods, first, sayings); \
+follows(house, woods, first, sayings, saying); needless(house, woods, first, sayings)
+firstsby: firsts_by(house, woods, sayings); wood_wanted(house, woods, first, sayings, room); \
+shortest_clash(house, woods, first, sayings); least_core(house, woods, first, sayings); \
+count_by(house, woods, first, sayings)
+drafts: is_shut(house, thing); unsafe_at(house, woods, shut); blown_out(house, woods, drafts, fire); \
+drafty_span(house, woods, drafts, one, other, hour); drafty_back(house, woods, drafts, one, other, hour); \
+lit_hours(house, woods, shut, one, other, hour)
+draftyfires: drafty_fire(house, woods, drafts, book); drafty_paper(house, woods, drafts, book); \
+is_drafty_paper(house, woods, drafts, book, thing); drafty_firsts(house, woods, drafts, book); \
+drafty_hours(house, woods, drafts, book, room)
+draftycounts: drafty_count(house, woods, drafts, book); drafty_at(house, woods, drafts, book, number)
 """
 
 
@@ -53,7 +75,7 @@ class Interface(unittest.TestCase):
                 self.assertEqual(call.__module__, module.__name__)
                 self.assertTrue(inspect.isfunction(call))
                 many += 1
-        self.assertEqual(many, 75)
+        self.assertEqual(many, 116)
 
     def test_house(self):
         from hearths.houses import House
