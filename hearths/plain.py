@@ -1,5 +1,7 @@
 """What all files need of plain things: what is a name, an integer, a row, and rows of stretches."""
 
+from math import gcd
+
 LETTERS = "abcdefghijklmnopqrstuvwxyz"
 NAME_SIGNS = "abcdefghijklmnopqrstuvwxyz0123456789"
 LONGEST_NAME = 12
@@ -60,3 +62,9 @@ def joined_stretches(stretches):
         else:
             joined.append((least, most))
     return joined
+
+
+def lowest_terms(over, under):
+    """The pair of a fraction, under above 0, in lowest terms."""
+    common = gcd(over, under)
+    return (over // common, under // common)

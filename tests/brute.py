@@ -143,3 +143,32 @@ def sample_of_objects(house):
     """Objects of all kinds, none of which is a room, a list of rooms, or a dict of rooms."""
     return [0, 1, -1, True, False, None, "", "zz", "A", [], (), {}, [None], ["zz"], [[]], {"zz": 1}, {1: 2},
             {(): []}, {None: None}, house, len, lambda: 0, [house], {"zz": house}, "a" * 13, 10 ** 40]
+
+
+def all_blazes(house, woods):
+    """The list of all blazes in which the first room, ascending, has the hour 0."""
+    rows = outward(house, house.rooms()[0])
+    blazes = [{rows[0][0]: 0}]
+    for room, came in rows[1:]:
+        blazes = [dict(blaze, **{room: hour}) for blaze in blazes
+                  for hour in range(blaze[came] - woods[room], blaze[came] + woods[came] + 1)]
+    return blazes
+
+
+def blazes_of_book(blazes, book):
+    """Of all blazes, each moved so that it has the hour of the first noted room, those that have all."""
+    noted = next(iter(book))
+    there = [moved(blaze, book[noted] - blaze[noted]) for blaze in blazes]
+    return [blaze for blaze in there if all(blaze[room] == hour for room, hour in book.items())]
+
+
+def made_in(house, blaze):
+    return [room for room in house.rooms() if all(blaze[far] >= blaze[room] for far in ways_on(house, room))]
+
+
+def book_of_blaze(chance, house, woods, change=0.3):
+    """Some hours of a blaze, some of them changed a little."""
+    blaze = moved(chance.choice(all_blazes(house, woods)), chance.randint(-3, 3))
+    some = [room for room in house.rooms() if chance.random() < 0.6] or house.rooms()[-1:]
+    chance.shuffle(some)
+    return {room: blaze[room] + (chance.choice([-2, -1, 1, 2]) if chance.random() < change else 0) for room in some}

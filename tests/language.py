@@ -26,7 +26,8 @@ BARRED = (ast.AsyncFunctionDef, ast.Global, ast.Nonlocal, ast.Try, ast.With, ast
           ast.SetComp)
 STATEMENTS = (ast.FunctionDef, ast.ClassDef, ast.Return, ast.Assign, ast.AugAssign, ast.For, ast.While, ast.If,
               ast.Raise, ast.ImportFrom, ast.Expr, ast.Pass, ast.Break, ast.Continue)
-LIBRARY = {"itertools": {"product", "combinations", "permutations"}, "math": {"gcd", "lcm", "isqrt", "comb"}}
+LIBRARY = {"itertools": {"product", "combinations", "permutations"}, "math": {"gcd", "lcm", "isqrt", "comb"},
+           "heapq": {"heappush", "heappop"}}
 AT_ONCE = {"range", "zip", "enumerate", "reversed", "map"}
 TAKING = {"combinations", "list", "tuple", "dict", "sorted", "sum", "any", "all", "enumerate", "zip"}
 NO_STARTS = ("_wall", "_pe_", "_dcw_", "_enum_", "_cm_", "_twin_re_", "_lay_", "_law_", "_stub_", "_sre", "_cold",

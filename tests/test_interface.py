@@ -57,6 +57,23 @@ draftyfires: drafty_fire(house, woods, drafts, book); drafty_paper(house, woods,
 is_drafty_paper(house, woods, drafts, book, thing); drafty_firsts(house, woods, drafts, book); \
 drafty_hours(house, woods, drafts, book, room)
 draftycounts: drafty_count(house, woods, drafts, book); drafty_at(house, woods, drafts, book, number)
+opendoors: open_fire(house, woods, opens, book); open_paper(house, woods, opens, book); walled(house, one, other); \
+why_two(house, woods, one, other, fire, far)
+blazes: is_blaze(house, woods, thing); late_door(house, woods, whole); made_rooms(house, woods, blaze); \
+fire_meetings(house, woods, blaze); whose_fire(house, woods, blaze, room)
+blazebooks: blaze_of(house, woods, book); late_pair(house, woods, book); blaze_hours(house, woods, book, room)
+blazecounts: blaze_count(house, woods); blazes_by_fires(house, woods); blaze_at(house, woods, number); \
+blaze_number(house, woods, blaze); made_chance(house, woods, room); mean_fires(house, woods)
+madefires: made_blaze(house, woods, made); made_late(house, woods, made); made_hours(house, woods, made, room)
+twofires: meeting_doors(house, woods, book, one, other); two_fires(house, woods, book, one, other); \
+two_paper(house, woods, book, one, other)
+fewfires: fire_numbers(house, woods, book); few_blaze(house, woods, book, number)
+branches: comes_in(branch); rim_hours(branch); goes_out(branch); inner_fire(branch, hour); outer_fire(branch, hour); \
+hung(one, room, other); cut_off(house, woods, book, room, other); span_from(hour, wood, spans)
+alikebranches: meeting_hours(one, other); have_fire(one, other); parting_hours(one, other); \
+is_parting(one, other, thing); told_branch(least, most, last); closed_branch(least, most)
+slacks: slack(house, woods, watchers, room, some); alike_fires(house, woods, watchers, one, other); \
+kept_apart(house, woods, watchers, one, other); alike_rooms(house, woods, watchers, room)
 """
 
 
@@ -75,7 +92,7 @@ class Interface(unittest.TestCase):
                 self.assertEqual(call.__module__, module.__name__)
                 self.assertTrue(inspect.isfunction(call))
                 many += 1
-        self.assertEqual(many, 116)
+        self.assertEqual(many, 160)
 
     def test_house(self):
         from hearths.houses import House
@@ -83,6 +100,13 @@ class Interface(unittest.TestCase):
         self.assertEqual(House.__module__, "hearths.houses")
         for name in ("__init__", "rooms", "doors", "__len__", "__eq__"):
             self.assertIn(name, vars(House))
+
+    def test_branch(self):
+        from hearths.branches import Branch
+        self.assertEqual(str(inspect.signature(Branch)), "(house, rim, woods, book)")
+        self.assertEqual(Branch.__module__, "hearths.branches")
+        for name in ("__init__", "house", "rim", "woods", "book", "__eq__"):
+            self.assertIn(name, vars(Branch))
 
     def test_called_by_names(self):
         from hearths.houses import House
