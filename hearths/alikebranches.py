@@ -1,8 +1,9 @@
 """Branches against one another: joined, in one another's place, and built as told."""
 
-from hearths.branches import Branch, comes_in, goes_out, need_branch, need_no_common_room
+from hearths.branches import Branch, comes_in, goes_out, need_branch
 from hearths.errors import BadTold
 from hearths.houses import House
+from hearths.otherhouses import need_no_common_room
 from hearths.plain import is_integer, is_row
 
 
@@ -52,8 +53,6 @@ def _hour_of_one(one, other):
 
 def parting_hours(one, other):
     """An hour of coming in is asked by two rooms around that bring it, one of going out by two that take it."""
-    need_branch(one)
-    need_branch(other)
     hour = _hour_of_one(_stretches_in(one), _stretches_in(other))
     if hour is not None:
         return (hour - 1, hour - 2)

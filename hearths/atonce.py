@@ -21,8 +21,6 @@ def at_once(house, woods, some):
 def not_at_once(house, woods, some):
     need_woods(house, woods)
     need_some(house, some)
-    if len(some) == 0:
-        return None
     rooms = sorted(some)
     clash = clash_of_claims(house, woods, _burning_then(woods, rooms))
     return None if clash is None else [rooms[at] for at in clash]

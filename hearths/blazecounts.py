@@ -27,9 +27,9 @@ def _row_product(one, other):
     return product
 
 
-def _row_sum(one, other):
-    longer, shorter = (one, other) if len(one) >= len(other) else (other, one)
-    return [number + (shorter[at] if at < len(shorter) else 0) for at, number in enumerate(longer)]
+def _row_sum(one, longer):
+    """The sum of two rows, the latter one no shorter."""
+    return [number + (one[at] if at < len(one) else 0) for at, number in enumerate(longer)]
 
 
 def blazes_by_fires(house, woods):
@@ -39,24 +39,21 @@ def blazes_by_fires(house, woods):
     the made ones yet, as it can be lit from ahead.
     """
     need_woods(house, woods)
-    ahead = ahead_from(house, house.rooms()[0])
+    first = house.rooms()[0]
+    ahead = ahead_from(house, first)
     lit = {room: [0] for room in ahead}
     unlit = {room: [1] for room in ahead}
     for room in reversed(list(ahead)):
         before = ahead[room]
-        made = _row_sum(lit[room], [0] + unlit[room])
-        if before is None:
-            counts = made[1:]
-            while counts[-1] == 0:
-                counts.pop()
-            return counts
-        from_ahead = [woods[before] * number for number in _row_sum(lit[room], unlit[room])]
-        not_earlier = _row_sum(from_ahead, made)
-        earlier = [woods[room] * number for number in made]
-        lit[before] = _row_sum(_row_product(lit[before], _row_sum(not_earlier, earlier)),
-                               _row_product(unlit[before], earlier))
-        unlit[before] = _row_product(unlit[before], not_earlier)
-    return []
+        if before is not None:
+            made = _row_sum(lit[room], [0] + unlit[room])
+            from_ahead = [woods[before] * number for number in _row_sum(lit[room], unlit[room])]
+            not_earlier = _row_sum(from_ahead, made)
+            earlier = [woods[room] * number for number in made]
+            lit[before] = _row_sum(_row_product(lit[before], _row_sum(not_earlier, earlier)),
+                                   _row_product(unlit[before], earlier))
+            unlit[before] = _row_product(unlit[before], not_earlier)
+    return _row_sum(lit[first], [0] + unlit[first])[1:]
 
 
 def _counts_by_hour(house, woods, book, room):

@@ -2,12 +2,12 @@
 
 from hearths.books import need_book, need_woods_and_book
 from hearths.builtfires import spans_of
-from hearths.errors import BadBranch, BadPairs, BadWood, CommonRoom
+from hearths.errors import BadBranch, BadPairs, BadWood
 from hearths.firsthours import could_be
 from hearths.hourspans import early_fire_in, fire_in_spans, pair_against
 from hearths.houses import need_room
 from hearths.lengths import need_hour
-from hearths.otherhouses import common_room, joined_by, part_of
+from hearths.otherhouses import joined_by, part_of
 from hearths.plain import ascending, is_from_one, is_row, is_span, joined_stretches
 from hearths.stepspans import ends_beyond, fire_steps
 from hearths.ways import ahead_from, behind
@@ -98,18 +98,10 @@ def outer_fire(branch, hour):
     return None if spans is None else fire_in_spans(branch.house(), branch.woods(), spans)
 
 
-def need_no_common_room(one, other):
-    """Raises CommonRoom with the first room that is in both houses."""
-    room = common_room(one, other)
-    if room is not None:
-        raise CommonRoom(room)
-
-
 def hung(one, room, other):
     need_branch(one)
     need_room(one.house(), room)
     need_branch(other)
-    need_no_common_room(one.house(), other.house())
     house = joined_by(one.house(), other.house(), room, other.rim())
     woods = one.woods()
     woods.update(other.woods())

@@ -39,11 +39,8 @@ def _drafty_ends(ahead, woods, closed, book):
     return low, high
 
 
-def _fire_from(ahead, woods, closed, book):
-    """The fire with drafts and this first room that fits, each hour as early as can be, None if there is none."""
-    ends = _drafty_ends(ahead, woods, closed, book)
-    if ends is None:
-        return None
+def _early_fire(ahead, closed, ends):
+    """The fire with drafts between such ends, each hour as early as can be."""
     low, _ = ends
     fire = {}
     for room, before in ahead.items():
@@ -67,10 +64,13 @@ def firsts_with_drafts(house, woods, drafts, book):
 
 def drafty_fire(house, woods, drafts, book):
     _need_all(house, woods, drafts, book)
-    firsts = firsts_with_drafts(house, woods, drafts, book)
-    if not firsts:
-        return None
-    return _fire_from(ahead_from(house, firsts[0]), woods, closed_hours(drafts), book)
+    closed = closed_hours(drafts)
+    for first in house.rooms():
+        ahead = ahead_from(house, first)
+        ends = _drafty_ends(ahead, woods, closed, book)
+        if ends is not None:
+            return _early_fire(ahead, closed, ends)
+    return None
 
 
 def drafty_paper(house, woods, drafts, book):

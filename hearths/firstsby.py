@@ -58,8 +58,8 @@ def least_core(house, woods, first, sayings):
     free = needless_ones(house, woods, first, sayings)
     wanted = [at for at in range(len(sayings)) if at not in free]
     for many in range(len(free) + 1):
-        cores = [sorted(wanted + list(some)) for some in combinations(free, many)]
-        for core in sorted(cores):
+        for some in combinations(free, many):
+            core = sorted(wanted + list(some))
             if _is_core(house, woods, first, sayings, core):
                 return core
     return wanted

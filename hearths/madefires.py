@@ -51,7 +51,7 @@ def made_hours(house, woods, made, room):
 
 def _hours_of_waiting(house, woods, made):
     """Ahead of which hour no room must be lit, or it would light a made one."""
-    waiting = dict(made)
+    waiting = {}
     for one in made:
         ahead = ahead_from(house, one)
         hours = {}
@@ -59,8 +59,7 @@ def _hours_of_waiting(house, woods, made):
             if before is not None:
                 # The rooms beside a made one are not earlier; each one further lights the one ahead in time.
                 hours[room] = made[one] if before == one else hours[before] - woods[room]
-                if room not in made:
-                    waiting[room] = max(hours[room], waiting.get(room, hours[room]))
+                waiting[room] = max(hours[room], waiting.get(room, hours[room]))
     return waiting
 
 

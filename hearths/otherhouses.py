@@ -19,18 +19,17 @@ def built_on(house, room, name):
     return House(house.rooms() + [name], house.doors() + [(room, name)])
 
 
-def common_room(one, other):
-    """The first room of both houses, None if there is none."""
-    common = [room for room in one.rooms() if is_room(other, room)]
-    return common[0] if common else None
+def need_no_common_room(one, other):
+    """Raises CommonRoom with the first room that is in both houses."""
+    for name in one.rooms():
+        if is_room(other, name):
+            raise CommonRoom(name)
 
 
 def joined_by(one, other, room, far):
     need_room(one, room)
     need_room(other, far)
-    name = common_room(one, other)
-    if name is not None:
-        raise CommonRoom(name)
+    need_no_common_room(one, other)
     return House(one.rooms() + other.rooms(), one.doors() + other.doors() + [(room, far)])
 
 

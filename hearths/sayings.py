@@ -97,7 +97,7 @@ def ring_by(house, woods, first, sayings):
 
 def is_ring_by(house, woods, first, sayings, thing):
     need_first_and_sayings(house, woods, first, sayings)
-    if not is_row(thing) or len(thing) == 0 or not all([_is_step(house, step) for step in thing]):
+    if not is_row(thing) or not all([_is_step(house, step) for step in thing]):
         return False
     there_are = {step: True for step in steps_by(house, woods, first, sayings)}
     if not all([(one, other, hours) in there_are for one, other, hours in thing]):

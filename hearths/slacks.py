@@ -40,7 +40,7 @@ def slack(house, woods, watchers, room, some):
     need_watchers(house, woods, watchers)
     need_room(house, room)
     near = rooms_near(house)[room]
-    wrong = bad_index(some, lambda thing: isinstance(thing, str) and thing in near)
+    wrong = bad_index(some, lambda thing: thing in near)
     if wrong is not None:
         raise BadSome(wrong)
     return slack_from(house, woods, watchers, slacks_beyond(house, woods, watchers), room, some)
@@ -87,9 +87,8 @@ def alike_fires(house, woods, watchers, one, other):
     need_watchers(house, woods, watchers)
     need_room(house, one)
     need_room(house, other)
-    beyond = slacks_beyond(house, woods, watchers)
     rooms = way_back(ahead_from(house, other), one)
-    slacks = _slacks_on(house, woods, watchers, beyond, rooms)
+    slacks = _slacks_on(house, woods, watchers, slacks_beyond(house, woods, watchers), rooms)
     if _first_apart(rooms, slacks) is not None:
         return None
     behind = _hours_behind(woods, rooms, slacks)
@@ -102,7 +101,7 @@ def alike_fires(house, woods, watchers, one, other):
     for room, before in ahead_from(house, one).items():
         if room not in fire:
             apart = twin[before] - fire[before]
-            given = 0 if beyond[(before, room)] is None else min(abs(apart), woods[before] - 1)
+            given = min(abs(apart), woods[before] - 1)
             fire[room] = fire[before] + 1 + (given if apart > 0 else 0)
             twin[room] = twin[before] + 1 + (given if apart < 0 else 0)
     return (ascending(fire), ascending(twin))

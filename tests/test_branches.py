@@ -67,6 +67,8 @@ class Branches(unittest.TestCase):
         for other in others + ALL + [RS, parts(B), "B"]:
             self.assertFalse(B == other)
             self.assertTrue(B != other)
+        one, other = (Branch(house_of(doors), "a", {"a": 1, "b": 1, "c": 1}, {}) for doors in ("ab bc", "ab ac"))
+        self.assertTrue(one != other and not one == other)
 
     def test_errors(self):
         check_errors(self, Branch, (H, "a", W, {"b": 1}), [(1, NoRoom, ROOMS), (2, BadWoods, WOODS),

@@ -166,6 +166,9 @@ class Rings(unittest.TestCase):
                       [("a", "b", 2), ("b", "a", -1)], [("b", "a", -1), ("a", "b", 2)], [("d", "d", -1)],
                       [ring[0], ("c", "d", False)] + ring[2:], {step: 1 for step in ring}, "abc"):
             self.assertIs(self.is_ring(thing), False)
+        for thing in ([(["a"], "b", 2)], [("a", ["b"], 2)], [(None, "b", 2)], [("a", {}, 2), ("b", "a", -1)], [],
+                      [("c", "d", 0), ("d", "c", 0)], [("a", "b", [2])], [("a", "b", "2")]):
+            self.assertIs(self.is_ring(thing), False)
         self.assertIs(is_ring_by(H, W, "a", GOOD, ring), False)
         self.assertIs(is_ring_by(H, dict(W, a=3), "a", self.SAYINGS, ring), False)
         self.assertIs(is_ring_by(H, W, "b", self.SAYINGS, ring), False)
