@@ -4,14 +4,13 @@ from hearths.books import need_book, need_woods_and_book
 from hearths.builtfires import spans_of
 from hearths.errors import BadBranch, BadPairs, BadWood
 from hearths.firsthours import could_be
-from hearths.hourspans import early_fire_in, fire_in_spans, pair_against
+from hearths.hourspans import early_fire_in, ends_beyond, fire_in_spans, pair_against
 from hearths.houses import need_room
 from hearths.lengths import need_hour
 from hearths.otherhouses import joined_by, part_of
 from hearths.plain import ascending, is_from_one, is_row, is_span, joined_stretches
-from hearths.stepspans import ends_beyond, fire_steps
 from hearths.ways import ahead_from, behind
-from hearths.woods import need_woods
+from hearths.woods import fire_steps, need_woods
 
 
 class Branch:

@@ -1,6 +1,9 @@
-"""Lists of claims: that hearths were lit within some hours."""
+"""Lists of claims: that hearths were lit within some hours.
 
-from hearths.clashes import bits_of_pairs, first_clash
+VIEWS are the ways to look at things, as the first rooms of a house: by a view some things go together just
+if each two of them do. So the shortest lists of things that never go together are found by pairs.
+"""
+
 from hearths.errors import BadClaims
 from hearths.hourspans import firsts_within
 from hearths.houses import is_room
@@ -32,6 +35,48 @@ def can_all_be(house, woods, claims):
         if spans[room][0] > spans[room][1]:
             return False
     return len(firsts_within(house, woods, spans)) > 0
+
+
+def bits_of_pairs(views):
+    """The dict from all pairs of indexes of claims to the views by which both go together.
+
+    Views are pairs of a house as it is seen and the list of the claims (room, least, most) there. They are
+    told as bits of an integer, one for each view, so that many pairs are gone through soon.
+    """
+    many = len(views[0][1])
+    bits = {(one, other): 0 for other in range(many) for one in range(other + 1)}
+    bit = 1
+    for seen, claims in views:
+        for one, other in list(bits):
+            if _go_together(seen, claims[one], claims[other]):
+                bits[(one, other)] += bit
+        bit += bit
+    return bits
+
+
+def _go_together(seen, one, other):
+    least, most = seen.hours_apart(one[0], other[0])
+    return other[1] - one[2] <= most and other[2] - one[1] >= least
+
+
+def first_clash(many, bits):
+    """The first of the shortest ascending lists of indexes below many that no view has all together, or None."""
+    left = -1
+    for pair in bits:
+        left = left & bits[pair]
+    together = [([], -1)] if left == 0 else []
+    while together:
+        longer = []
+        for indexes, views in together:
+            for at in range(indexes[-1] + 1 if indexes else 0, many):
+                still = views
+                for index in indexes + [at]:
+                    still = still & bits[(index, at)]
+                if still == 0:
+                    return indexes + [at]
+                longer.append((indexes + [at], still))
+        together = longer
+    return None
 
 
 def clash_of_claims(house, woods, claims):

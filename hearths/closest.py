@@ -2,8 +2,8 @@
 
 from hearths.errors import BadSaying, NoFire
 from hearths.houses import need_room
-from hearths.rowsteps import row_to, rows_from
-from hearths.sayings import is_kept, is_saying, need_first_and_sayings, ring_of_steps, steps_by
+from hearths.sayings import (is_kept, is_saying, need_first_and_sayings, ring_of_steps, row_to, rows_from,
+                             steps_by)
 
 
 def _need_two(house, woods, first, sayings, one, other):

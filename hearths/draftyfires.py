@@ -5,7 +5,7 @@ not while the door to it is shut. As drafts are safe, hours without such ones le
 """
 
 from hearths.books import need_book
-from hearths.clashes import first_clash
+from hearths.claimlists import first_clash
 from hearths.drafts import closed_hours, first_open, last_open, need_drafts, open_stretches
 from hearths.houses import need_room
 from hearths.plain import ascending, bad_index, joined_stretches

@@ -4,8 +4,8 @@ from itertools import combinations
 
 from hearths.closest import follows_by, need_no_ring, needless_ones
 from hearths.houses import need_room
-from hearths.rowsteps import ring_in, rows_from, turned
-from hearths.sayings import need_first_and_sayings, need_sayings, ring_of_steps, steps_by
+from hearths.sayings import (need_first_and_sayings, need_sayings, ring_in, ring_of_steps, rows_from, steps_by,
+                             turned)
 from hearths.ways import ahead_from
 from hearths.woods import need_woods
 

@@ -1,12 +1,15 @@
-"""Hours that are not known for sure: spans of hours, and fires that keep to them."""
+"""Hours that are not known for sure: spans of hours, and fires that keep to them.
+
+AHEAD is the dict from all rooms to the one ahead, each behind it; STEPS are a dict from all rooms but the
+first to the pair of the least and the most hours that they can be lit behind the one ahead, perhaps below 0.
+"""
 
 from hearths.errors import BadSpans
 from hearths.fires import need_fire
 from hearths.houses import is_room
-from hearths.plain import bad_index, is_span
-from hearths.stepspans import early_by_steps, fire_steps, late_by_steps, pair_off_steps
+from hearths.plain import ascending, bad_index, is_span
 from hearths.ways import ahead_from
-from hearths.woods import need_woods
+from hearths.woods import fire_steps, need_woods
 
 MOST_IN_PAPER = 4
 
@@ -22,6 +25,66 @@ def need_spans(house, woods, spans):
     need_woods(house, woods)
     if not is_spans(house, spans):
         raise BadSpans(spans)
+
+
+def ends_beyond(ahead, steps, spans):
+    """Between which hours each room must be lit for the spans of itself and of what lies behind it.
+
+    A pair of dicts from the rooms of which anything is told so, to the least and to the greatest hour,
+    each in a pair with the room whose span tells it.
+    """
+    low = {room: (span[0], room) for room, span in spans.items()}
+    high = {room: (span[1], room) for room, span in spans.items()}
+    for room in reversed(list(ahead)):
+        before = ahead[room]
+        if before is not None and room in low:
+            least = (low[room][0] - steps[room][1], low[room][1])
+            most = (high[room][0] - steps[room][0], high[room][1])
+            low[before] = max(least, low.get(before, least))
+            high[before] = min(most, high.get(before, most))
+    return low, high
+
+
+def pair_off_steps(ahead, steps, spans):
+    """Two rooms whose spans no such hours keep, None if some keep to all."""
+    low, high = ends_beyond(ahead, steps, spans)
+    for room in reversed(list(ahead)):
+        if room in low and low[room][0] > high[room][0]:
+            return sorted([low[room][1], high[room][1]])
+    return None
+
+
+def early_by_steps(ahead, steps, spans):
+    """The hours that keep to spans, each as early as can be.
+
+    There must be some. Without spans the first room's hour is 0.
+    """
+    low, _ = ends_beyond(ahead, steps, spans)
+    hours = {}
+    for room, before in ahead.items():
+        soonest = 0 if before is None else hours[before] + steps[room][0]
+        if room not in low:
+            hours[room] = soonest
+        elif before is None:
+            hours[room] = low[room][0]
+        else:
+            hours[room] = max(soonest, low[room][0])
+    return ascending(hours)
+
+
+def late_by_steps(ahead, steps, spans):
+    """As early_by_steps, but each hour as late as can be."""
+    _, high = ends_beyond(ahead, steps, spans)
+    hours = {}
+    for room, before in ahead.items():
+        latest = 0 if before is None else hours[before] + steps[room][1]
+        if room not in high:
+            hours[room] = latest
+        elif before is None:
+            hours[room] = high[room][0]
+        else:
+            hours[room] = min(latest, high[room][0])
+    return ascending(hours)
 
 
 def pair_against(ahead, woods, spans):

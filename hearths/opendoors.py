@@ -1,16 +1,16 @@
 """Doors that are open from an hour to another one only, and doors that are walled."""
 
 from hearths.books import need_book
-from hearths.clashes import bits_of_pairs, first_clash
+from hearths.claimlists import bits_of_pairs, first_clash
 from hearths.drafts import is_told_door
 from hearths.errors import BadFire, BadOpens
 from hearths.fires import earliest_room, is_fire
 from hearths.hourspans import early_fire_in, pair_against
 from hearths.otherhouses import part_of
 from hearths.plain import is_span
-from hearths.stepspans import Seen, fire_steps
+from hearths.twohours import Seen
 from hearths.ways import ahead_from, behind
-from hearths.woods import need_woods
+from hearths.woods import fire_steps, need_woods
 
 
 def is_opens(house, thing):

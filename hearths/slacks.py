@@ -1,9 +1,9 @@
 """Watchers: whose hours alone are seen, and first rooms that they do not keep apart."""
 
 from hearths.errors import BadSome, BadWatchers
+from hearths.hourspans import early_by_steps
 from hearths.houses import is_room, need_room, rooms_near
 from hearths.plain import ascending, bad_index
-from hearths.stepspans import early_by_steps
 from hearths.ways import ahead_from, doors_inward, way_back
 from hearths.woods import need_woods
 

@@ -6,11 +6,13 @@ one room on: behind the door, on the way to the other room, fire comes towards t
 
 from hearths.books import need_woods_and_book
 from hearths.builtfires import spans_of
-from hearths.clashes import bits_of_pairs, first_clash
+from hearths.claimlists import bits_of_pairs, first_clash
 from hearths.errors import SameRoom
+from hearths.hourspans import early_by_steps, pair_off_steps
 from hearths.houses import need_room
-from hearths.stepspans import Seen, early_by_steps, fire_steps, pair_off_steps
+from hearths.twohours import Seen
 from hearths.ways import ahead_from, way_back
+from hearths.woods import fire_steps
 
 
 def _need_all(house, woods, book, one, other):

@@ -3,9 +3,40 @@
 from hearths.errors import BadHours
 from hearths.houses import need_room
 from hearths.plain import is_integer, joined_stretches
-from hearths.stepspans import Seen, fire_steps
-from hearths.ways import ahead_from
-from hearths.woods import need_woods
+from hearths.ways import ahead_from, way_back
+from hearths.woods import fire_steps, need_woods
+
+
+class Seen:
+    """A house as it is seen from a first room, and by how many hours rooms can be lit behind it by some steps."""
+
+    def __init__(self, ahead, steps):
+        self.ahead = ahead
+        self.least_to = {}
+        self.most_to = {}
+        for room, before in ahead.items():
+            if before is None:
+                self.least_to[room] = 0
+                self.most_to[room] = 0
+            else:
+                self.least_to[room] = self.least_to[before] + steps[room][0]
+                self.most_to[room] = self.most_to[before] + steps[room][1]
+
+    def hours_apart(self, one, other):
+        """The pair of the least and most hours by which other is lit behind one."""
+        part = _parting(self.ahead, one, other)
+        least = self.least_to[other] - self.least_to[part] - self.most_to[one] + self.most_to[part]
+        most = self.most_to[other] - self.most_to[part] - self.least_to[one] + self.least_to[part]
+        return (least, most)
+
+
+def _parting(ahead, one, other):
+    """The room where the ways from the first room to both part."""
+    back = way_back(ahead, one)
+    room = other
+    while room not in back:
+        room = ahead[room]
+    return room
 
 
 def seen_from(house, woods, first):

@@ -23,6 +23,11 @@ def woods_ahead(ahead, woods):
     return sums
 
 
+def fire_steps(ahead, woods):
+    """The dict from all rooms but the first to the least and the most hours that fires take to them from ahead."""
+    return {room: (1, woods[before]) for room, before in ahead.items() if before is not None}
+
+
 def spread(house, woods, one, other):
     need_woods(house, woods)
     rooms = way(house, one, other)
