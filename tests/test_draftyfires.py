@@ -13,6 +13,7 @@ from tests.brute import (all_fires, all_fitting, great_houses, moved, path, rand
 from tests.test_drafts import BAD_SHUT, D, UNSAFE, blown, random_drafts
 from tests.test_fires import H, W
 from tests.test_fittings import fire_of
+from tests.test_twohours import H6, W6
 from tests.test_ways import raised
 from tests.wrong import ALL, BOOKS, ROOMS, WOODS, check_errors, in_turns, is_number, one_room, turned_dict, with_lists
 
@@ -75,6 +76,12 @@ class TheRule(unittest.TestCase):
         self.assertIs(is_drafty_paper(H, W, D, book, ("b", "a")), True)
         more = dict(book, c=9, d=-9)
         self.assertIs(is_drafty_paper(H, W, D, more, ["d", "c", "b", "a"]), True)
+
+    def test_four_rooms(self):
+        book = {"a": 0, "b": 3, "c": 2, "d": 0}
+        for drafts in ({}, {("a", "x"): [7, 9]}):
+            self.assertEqual(drafty_paper(H6, W6 | {"a": 2}, drafts, book), ["a", "b", "c", "d"])
+        self.assertEqual(drafty_paper(H6, W6, {("x", "y"): [1, 2]}, book), ["a", "b", "c", "d"])
 
     def test_empty_book(self):
         for chance, house, woods, drafts, _ in cases(211, 40):

@@ -11,6 +11,7 @@ from tests.brute import (all_fires, all_fitting, great_houses, moved, outward, p
                          small_cases, ways_on)
 from tests.test_fires import F, H, W
 from tests.test_fittings import fire_of
+from tests.test_twohours import H6, W6
 from tests.test_ways import raised
 from tests.wrong import ALL, BOOKS, FIRES, ROOMS, WOODS, check_errors, in_turns, one_room, turned_dict, with_lists
 
@@ -93,6 +94,15 @@ class OpenDoors(unittest.TestCase):
         _, one, other = telling
         least, most = opens[(one, other)]
         return least <= fire[other if came[other] == one else one] <= most
+
+    def test_four_tellings(self):
+        book = {"a": 0, "b": 3, "c": 2, "d": 0}
+        self.assertEqual(open_paper(H6, W6, {}, book), [("room", room) for room in "abcd"])
+        for opens in ({("x", "y"): (1, 1)}, {("d", "y"): (0, 1)}, {("c", "y"): (2, 4)}):
+            self.check(H6, W6, opens, book)
+        del book["b"]
+        self.assertEqual(self.check(H6, W6, {("b", "x"): (3, 5)}, book),
+                         [("door", "b", "x"), ("room", "a"), ("room", "c"), ("room", "d")])
 
     def test_nothing_told(self):
         self.assertTrue(is_fire(H, W, open_fire(H, W, {}, {})))
