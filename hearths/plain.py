@@ -11,6 +11,10 @@ def is_integer(thing):
     return isinstance(thing, int) and not isinstance(thing, bool)
 
 
+def is_number(thing):
+    return is_integer(thing) and thing >= 0
+
+
 def is_from_one(thing):
     return is_integer(thing) and thing >= 1
 

@@ -172,3 +172,41 @@ def book_of_blaze(chance, house, woods, change=0.3):
     some = [room for room in house.rooms() if chance.random() < 0.6] or house.rooms()[-1:]
     chance.shuffle(some)
     return {room: blaze[room] + (chance.choice([-2, -1, 1, 2]) if chance.random() < change else 0) for room in some}
+
+
+def next_by_words(house, tour):
+    """The rooms that can stand next in a tour that begins so, by the words of [104]."""
+    for room in path(house, tour[-1], tour[0]):
+        left = [far for far in ways_on(house, room) if far not in tour]
+        if left:
+            return room, left
+    return None, []
+
+
+def all_tours(house, first):
+    """The list of all tours that begin with a room."""
+    tours = [[first]]
+    for _ in range(len(house) - 1):
+        tours = [tour + [room] for tour in tours for room in next_by_words(house, tour)[1]]
+    return tours
+
+
+def tour_by_words(house, back, tour):
+    """The pair of the hours of a tour and of the rooms from which they are lit, room by room."""
+    hours, lit = {tour[0]: 0}, {tour[0]: None}
+    for at in range(1, len(tour)):
+        here, _ = next_by_words(house, tour[:at])
+        doors = len(path(house, tour[at - 1], here)) - 1
+        hours[tour[at]] = hours[tour[at - 1]] + 1 + back * doors
+        lit[tour[at]] = here
+    return hours, lit
+
+
+def tours_in_time(house, woods, back, first):
+    """The list of the pairs (tour, hours) of all tours in time that begin with a room, as lists compare."""
+    told = []
+    for tour in sorted(all_tours(house, first)):
+        hours, lit = tour_by_words(house, back, tour)
+        if all(lit[room] is None or hours[room] - hours[lit[room]] <= woods[lit[room]] for room in tour):
+            told.append((tour, hours))
+    return told

@@ -26,7 +26,7 @@ BARRED = (ast.AsyncFunctionDef, ast.Global, ast.Nonlocal, ast.Try, ast.With, ast
           ast.SetComp)
 STATEMENTS = (ast.FunctionDef, ast.ClassDef, ast.Return, ast.Assign, ast.AugAssign, ast.For, ast.While, ast.If,
               ast.Raise, ast.ImportFrom, ast.Expr, ast.Pass, ast.Break, ast.Continue)
-LIBRARY = {"itertools": {"product", "combinations", "permutations"}, "math": {"gcd", "lcm", "isqrt", "comb"},
+LIBRARY = {"itertools": {"product", "combinations", "permutations"}, "math": {"gcd", "lcm", "isqrt", "comb", "perm", "factorial"},
            "heapq": {"heappush", "heappop"}}
 AT_ONCE = {"range", "zip", "enumerate", "reversed", "map"}
 TAKING = {"combinations", "list", "tuple", "dict", "sorted", "sum", "any", "all", "enumerate", "zip"}

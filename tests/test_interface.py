@@ -74,6 +74,22 @@ alikebranches: meeting_hours(one, other); have_fire(one, other); parting_hours(o
 is_parting(one, other, thing); told_branch(least, most, last); closed_branch(least, most)
 slacks: slack(house, woods, watchers, room, some); alike_fires(house, woods, watchers, one, other); \
 kept_apart(house, woods, watchers, one, other); alike_rooms(house, woods, watchers, room)
+telling: tell_first(house, woods, watchers); doubtful_fires(house, woods, watchers); \
+doubtful_doors(house, woods, watchers); can_be_spared(house, woods, watchers)
+fewestwatchers: fewest_watchers(house, woods); cheapest_watchers(house, woods, prices)
+lookers: run_looker(house, woods, fire, looker); beat_looker(house, woods, looker)
+backwoods: woods_of(house, books); no_woods(house, books); least_wood(house, woods, book, first, room); \
+wanting_pair(house, woods, book, first, room)
+stretches: fewest_hours(house, book, first); apart_pairs(house, book, first); apart_worth(house, book, first, thing)
+tours: is_tour(house, thing); tour_hours(house, back, tour); late_in_tour(house, woods, back, tour)
+toursfrom: tour_from(house, woods, back, first); short_room(house, woods, back, first); \
+firsts_of_tours(house, woods, back); last_rooms(house, woods, back, first); tour_lengths(house, woods, back, first); \
+lacking_wood(house, woods, back, first); least_wanted(house, woods, back)
+tournumbers: count_tours(house, woods, back, first); tour_numbered(house, woods, back, first, number); \
+tour_number(house, woods, back, tour); next_tour(house, woods, back, tour)
+tourhours: lit_counts(house, woods, back, first, room); count_by_book(house, woods, back, book); \
+tour_by_book(house, woods, back, book)
+walks: is_walk(house, woods, thing); shortest_walk(house, woods, first)
 """
 
 
@@ -92,7 +108,7 @@ class Interface(unittest.TestCase):
                 self.assertEqual(call.__module__, module.__name__)
                 self.assertTrue(inspect.isfunction(call))
                 many += 1
-        self.assertEqual(many, 160)
+        self.assertEqual(many, 194)
 
     def test_house(self):
         from hearths.houses import House

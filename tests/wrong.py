@@ -18,9 +18,15 @@ ROOMS = ALL
 BOOKS = [thing for thing in ALL if thing != {}] + [{"a": True}, {"a": None}, {"a": "1"}, {"b": 1, "x": 2}, {"a": [1]}]
 FIRES = ALL + [dict(F, d=6), dict(F, b=7), {"a": 4, "b": 6, "c": 7}, dict(F, c=True), dict(F, x=1), dict(F, c=6)]
 INTEGERS = [thing for thing in ALL if not is_number(thing)]
+NUMBERS = [thing for thing in ALL if not is_number(thing) or thing < 0]
 FROM_ONE = [thing for thing in ALL if not is_number(thing) or thing < 1]
 NO_LISTS = [(thing, 0) for thing in ALL if not isinstance(thing, (list, tuple))]
 SOME = NO_LISTS + [(["c", thing, "c"], 1) for thing in ALL] + [(["a", "b", "a", "zz"], 2), (("d", "d"), 1)]
+
+
+def kept_name(kind):
+    """Under which name errors of a class keep what they are made with."""
+    return kind.__init__.__code__.co_varnames[1]
 
 
 def check_errors(test, call, good, rows):
@@ -32,16 +38,16 @@ def check_errors(test, call, good, rows):
     call(*good)
     for at, (place, kind, bads) in enumerate(rows):
         for bad in bads:
-            thing, index = bad if kind.__init__.__code__.co_varnames[1:2] == ("index",) else (bad, None)
+            thing, index = bad if kept_name(kind) == "index" else (bad, None)
             for spoilt in (False, True):
                 things = list(good)
                 for later, other, others in rows[at + 1:] if spoilt else []:
                     worst = others[0]
-                    things[later] = worst[0] if other.__init__.__code__.co_varnames[1:2] == ("index",) else worst
+                    things[later] = worst[0] if kept_name(other) == "index" else worst
                 things[place] = thing
                 error = raised(test, kind, call, *things)
                 if index is None:
-                    test.assertIs(error.thing, thing)
+                    test.assertIs(getattr(error, kept_name(kind)), thing)
                 else:
                     test.assertEqual(error.index, index)
 
