@@ -89,13 +89,13 @@ def counts_by_first(house, woods, book):
     return {first: begun[first] for first in begun if begun[first] > 0}
 
 
-def counts_of_room(house, woods, alone, closed, room):
-    """The counts of all fires by the hour of a room, alone telling the counts of each room alone.
+def come_and_made(house, woods, alone, closed, room):
+    """The pair of the counts by the hour of a room, alone telling the counts of each room alone.
 
+    The former is of fires that come in to the house by this room, the latter of those that are made within.
     Closed are the hours, if any, at which none goes through a door, for both its directions; they are for
-    counts that all hang on the hour. Of each branch counts are made of two: those of fires that come in to
-    it by its door, and those of fires that are made within. In the latter fire is made in its own room, or
-    comes from one of the branches behind and goes on to all others.
+    counts that all hang on the hour. Such a pair is made for each branch: fire made within is made in its own
+    room, or comes from one of the branches behind and goes on to all others.
     """
     near = rooms_near(house)
     ahead = ahead_from(house, room)
@@ -113,7 +113,12 @@ def counts_of_room(house, woods, alone, closed, room):
                 into = times(into, onward)
         coming[here] = into
         made[here] = plus(into, out)
-    return made[room]
+    return coming[room], made[room]
+
+
+def counts_of_room(house, woods, alone, closed, room):
+    """The counts of all fires by the hour of a room."""
+    return come_and_made(house, woods, alone, closed, room)[1]
 
 
 def _without(counts, hours):

@@ -39,7 +39,7 @@ def _rooms_near(rooms, doors):
     for at, door in enumerate(doors):
         if not _is_pair_of(near, door) or lots[door[0]] == lots[door[1]]:
             raise BadDoors(at)
-        _join_lots(lots, lots[door[0]], lots[door[1]])
+        join_lots(lots, lots[door[0]], lots[door[1]])
         near[door[0]].append(door[1])
         near[door[1]].append(door[0])
     for room in rooms:
@@ -55,7 +55,8 @@ def _is_pair_of(near, door):
     return all([isinstance(room, str) and room in near for room in door])
 
 
-def _join_lots(lots, kept, lost):
+def join_lots(lots, kept, lost):
+    """Makes one lot of two: lots are the dict from rooms to the names of their lots."""
     for room in list(lots):
         if lots[room] == lost:
             lots[room] = kept

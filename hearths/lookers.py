@@ -1,6 +1,7 @@
 """Lookers: functions that look at rooms one by one, and then tell the first room."""
 
 from hearths.branches import Branch
+from hearths.cottages import Cottage
 from hearths.errors import BadAnswer, BadLooker, HearthError
 from hearths.fires import earliest_room, need_fire
 from hearths.firecounts import count_fires
@@ -11,7 +12,7 @@ from hearths.woods import need_woods
 
 
 def _need_looker(thing):
-    if thing is None or isinstance(thing, (int, str, list, tuple, dict, House, Branch, HearthError)):
+    if thing is None or isinstance(thing, (int, str, list, tuple, dict, House, Branch, Cottage, HearthError)):
         raise BadLooker(thing)
 
 

@@ -210,3 +210,20 @@ def tours_in_time(house, woods, back, first):
         if all(lit[room] is None or hours[room] - hours[lit[room]] <= woods[lit[room]] for room in tour):
             told.append((tour, hours))
     return told
+
+
+def all_orders(rooms):
+    """The list of all rows of lots of some rooms."""
+    if not rooms:
+        return [[]]
+    orders = []
+    for many in range(1, len(rooms) + 1):
+        for lot in itertools.combinations(sorted(rooms), many):
+            left = [room for room in rooms if room not in lot]
+            orders += [[list(lot)] + rest for rest in all_orders(left)]
+    return orders
+
+
+def order_by_hours(fire):
+    """The order of a fire, by its hours."""
+    return [sorted(room for room in fire if fire[room] == hour) for hour in sorted(set(fire.values()))]

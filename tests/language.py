@@ -1,6 +1,7 @@
 """Finds what breaks the rules of the language, as far as these can be seen in the files of the package.
 
-The package keeps to less than the rules allow: no try, no generator, no decorator, no operator but ==.
+The package keeps to less than the rules allow: no generator, no decorator, no operator but ==, a try only with
+plain assignments in a finally.
 """
 
 import ast
@@ -21,11 +22,11 @@ hasattr help id importlib license locals methodcaller os quit setattr super type
 NO_WORDS = set("""type typing typing_extensions enum Enum IntEnum StrEnum Flag IntFlag Generic Protocol ABC ABCMeta
 namedtuple NamedTuple TypedDict TYPE_CHECKING abstractmethod""".split())
 DOUBLE = {"__init__", "__eq__", "__len__"}
-BARRED = (ast.AsyncFunctionDef, ast.Global, ast.Nonlocal, ast.Try, ast.With, ast.Yield, ast.YieldFrom, ast.Await,
+BARRED = (ast.AsyncFunctionDef, ast.Global, ast.Nonlocal, ast.With, ast.Yield, ast.YieldFrom, ast.Await,
           ast.GeneratorExp, ast.JoinedStr, ast.AnnAssign, ast.NamedExpr, ast.Match, ast.Assert, ast.Delete, ast.Set,
           ast.SetComp)
 STATEMENTS = (ast.FunctionDef, ast.ClassDef, ast.Return, ast.Assign, ast.AugAssign, ast.For, ast.While, ast.If,
-              ast.Raise, ast.ImportFrom, ast.Expr, ast.Pass, ast.Break, ast.Continue)
+              ast.Raise, ast.ImportFrom, ast.Expr, ast.Pass, ast.Break, ast.Continue, ast.Try)
 LIBRARY = {"itertools": {"product", "combinations", "permutations"}, "math": {"gcd", "lcm", "isqrt", "comb", "perm", "factorial"},
            "heapq": {"heappush", "heappop"}}
 AT_ONCE = {"range", "zip", "enumerate", "reversed", "map"}
@@ -92,6 +93,16 @@ def check_text(file):
             file.say("L27", token.start[0], token.string)
 
 
+def is_plain(value, functions, depth=0):
+    """Whether a value at module level is a plain one, or a table of plain ones and of functions defined above."""
+    if isinstance(value, ast.Dict) and depth == 0:
+        return all(isinstance(key, ast.Constant) for key in value.keys) and all(
+            is_plain(part, functions, 1) for part in value.values)
+    if isinstance(value, ast.Tuple):
+        return all(is_plain(part, functions, 1) for part in value.elts)
+    return isinstance(value, ast.Constant) or depth > 0 and isinstance(value, ast.Name) and value.id in functions
+
+
 def check_module(file):
     seen = set()
     for at, node in enumerate(file.tree.body):
@@ -104,7 +115,7 @@ def check_module(file):
                 file.say("L2", node, "an import that does not stand at the top")
         elif isinstance(node, ast.Assign) and isinstance(node.targets[0], ast.Name) and len(node.targets) == 1:
             names = [node.targets[0].id]
-            if not isinstance(node.value, ast.Constant):
+            if not is_plain(node.value, seen & set(file.functions)):
                 file.say("L3", node, "no plain value")
         elif not (at == 0 and isinstance(node, ast.Expr) and isinstance(node.value, ast.Constant)):
             file.say("L3", node, "barred at module level")
@@ -233,6 +244,8 @@ def check_nodes(file, methods):
             check_compare(file, node)
         if isinstance(node, ast.Raise):
             check_raise(file, node)
+        if isinstance(node, ast.Try):
+            check_try(file, node)
         if isinstance(node, ast.For):
             check_loop(file, node)
         if isinstance(node, ast.Call):
@@ -244,6 +257,16 @@ def check_compare(file, node):
         if isinstance(sign, (ast.Is, ast.IsNot)):
             if not isinstance(right, ast.Constant) or right.value not in (None, True, False):
                 file.say("L20", node, "is")
+
+
+def check_try(file, node):
+    """A finally assigns names that were there ahead of the try, and no handler stands beside it."""
+    for last in node.finalbody:
+        values = last.value.elts if isinstance(last, ast.Assign) and isinstance(last.value, ast.Tuple) else []
+        if not values or not all(isinstance(value, ast.Name) for value in values):
+            file.say("L6", last, "more than an assignment of names")
+    if node.handlers or node.orelse or not node.finalbody:
+        file.say("own rule", node, "a handler")
 
 
 def check_raise(file, node):

@@ -90,7 +90,39 @@ tour_number(house, woods, back, tour); next_tour(house, woods, back, tour)
 tourhours: lit_counts(house, woods, back, first, room); count_by_book(house, woods, back, book); \
 tour_by_book(house, woods, back, book)
 walks: is_walk(house, woods, thing); shortest_walk(house, woods, first)
+firechances: first_chances(house, woods); door_chance(house, woods, one, other); hour_chances(house, woods, room); \
+mean_hours(house, woods); gap_chances(house, woods, one, other); ahead_chances(house, woods, one, other)
+litchances: lit_chances(house, woods, hours); last_chances(house, woods); mean_last(house, woods); \
+surely_by(house, woods, chance); mean_burning(house, woods, hours)
+given: first_given(house, woods, book); door_given(house, woods, book, one, other); \
+hour_given(house, woods, book, room); mean_given(house, woods, book); gap_given(house, woods, book, one, other); \
+ahead_given(house, woods, book, one, other)
+onehourmore: left_mean(house, woods, book, room); first_known(house, woods, book, room); best_asked(house, woods, book)
+cottagetexts: write_cottage(cottage); read_cottage(text)
+orders: is_order(house, thing); order_of(house, woods, fire); fire_in_order(house, woods, order); \
+order_fault(house, woods, order)
+longorders: longest_in_order(house, woods, order); worth_of_row(house, woods, order, thing); \
+bounds_row(house, woods, order); fire_lasting(house, woods, order, hours)
+ordercounts: count_orders_from(house, woods, first); count_orders(house, woods); orders_from(house, woods, first)
+brands: order_within(house, woods, many); least_brands(house, woods)
 """
+
+METHODS = {
+    ("houses", "House"): ("(rooms, doors)", ["rooms()", "doors()", "__len__()", "__eq__(other)"]),
+    ("branches", "Branch"): ("(house, rim, woods, book)", ["house()", "rim()", "woods()", "book()", "__eq__(other)"]),
+    ("cottages", "Cottage"): ("(room, wood)", [
+        "now()", "woods()", "book()", "hour()", "watched()", "do(deed)", "is_question(thing)", "answer(question)",
+        "would(deed)", "could_note(room)", "mending_rooms()", "count()", "deeds()", "undo()", "again()", "copy()",
+        "at(number)", "trial(work)", "__eq__(other)"])}
+
+
+def listed_functions():
+    """The triples of the file, the function and its parameters, of all that the interface lists."""
+    for row in ROWS.strip().split("\n"):
+        place, _, calls = row.partition(": ")
+        for told in calls.split("; "):
+            name, _, rest = told.partition("(")
+            yield place, name, rest[:-1].split(", ")
 
 
 class Interface(unittest.TestCase):
@@ -98,37 +130,32 @@ class Interface(unittest.TestCase):
 
     def test_functions(self):
         many = 0
-        for row in ROWS.strip().split("\n"):
-            place, _, calls = row.partition(": ")
+        for place, name, parameters in listed_functions():
             module = importlib.import_module(f"hearths.{place}")
-            for told in calls.split("; "):
-                name, _, rest = told.partition("(")
-                call = getattr(module, name)
-                self.assertEqual(f"({rest}", str(inspect.signature(call)))
-                self.assertEqual(call.__module__, module.__name__)
-                self.assertTrue(inspect.isfunction(call))
-                many += 1
-        self.assertEqual(many, 194)
+            call = getattr(module, name)
+            self.assertEqual(list(inspect.signature(call).parameters), parameters)
+            self.assertEqual(call.__module__, module.__name__)
+            self.assertTrue(inspect.isfunction(call))
+            many += 1
+        self.assertEqual(many, 229)
 
-    def test_house(self):
-        from hearths.houses import House
-        self.assertEqual(str(inspect.signature(House)), "(rooms, doors)")
-        self.assertEqual(House.__module__, "hearths.houses")
-        for name in ("__init__", "rooms", "doors", "__len__", "__eq__"):
-            self.assertIn(name, vars(House))
+    def test_classes(self):
+        for (place, name), (made_of, methods) in METHODS.items():
+            kind = getattr(importlib.import_module(f"hearths.{place}"), name)
+            self.assertEqual(str(inspect.signature(kind)), made_of)
+            self.assertEqual((kind.__module__, kind.__bases__), (f"hearths.{place}", (object,)))
+            for told in methods + ["__init__" + made_of]:
+                method, _, rest = told.partition("(")
+                self.assertIn(method, vars(kind))
+                parameters = list(inspect.signature(vars(kind)[method]).parameters)
+                self.assertEqual(parameters[1:], [part for part in rest[:-1].split(", ") if part])
 
-    def test_branch(self):
-        from hearths.branches import Branch
-        self.assertEqual(str(inspect.signature(Branch)), "(house, rim, woods, book)")
-        self.assertEqual(Branch.__module__, "hearths.branches")
-        for name in ("__init__", "house", "rim", "woods", "book", "__eq__"):
-            self.assertIn(name, vars(Branch))
-
-    def test_called_by_names(self):
-        from hearths.houses import House
-        from hearths.twohours import between
-        house = House(rooms=["a", "b"], doors=[("a", "b")])
-        self.assertEqual(between(other="b", one="a", first="a", woods={"a": 2, "b": 1}, house=house), (1, 2))
+    def test_files(self):
+        """each file of the interface is there, errors beside them"""
+        places = {place for place, _, _ in listed_functions()} | {place for place, _ in METHODS} | {"errors"}
+        self.assertEqual(len(places), 60)
+        for place in places:
+            importlib.import_module(f"hearths.{place}")
 
 
 if __name__ == "__main__":

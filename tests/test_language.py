@@ -29,7 +29,9 @@ class Language(unittest.TestCase):
                   "def f(x):\n    return \"%\"", "def f(x):\n    return 2 ** x", "def f(x):\n    return f(x, x)",
                   "def f(x):\n    raise x", "def f(x):\n    return 0.5", "def f(x):\n    return hash(x)",
                   "def f(x):\n    assert x", "def f(x):\n    return print(x)",
-                  "def f(x):\n" + "    x += 1\n" * 40, "# \u00e4", "X = 1\nX = 2"]
+                  "def f(x):\n" + "    x += 1\n" * 40, "# \u00e4", "X = 1\nX = 2",
+                  "def f(x):\n    try:\n        return x\n    finally:\n        x.clear()",
+                  "def f(x):\n    return x\n\n\nT = {1: [f]}", "T = [1]", "T = {1: g}", "T = {1: {}}"]
         for text in breaks:
             self.assertTrue(check({"one.py": f'"""One."""\n\n{text}\n'}), text)
         self.assertEqual(check({"one.py": '"""One."""\n\n\ndef f(x):\n    return [y for y in x]\n'}), [])

@@ -4,6 +4,7 @@ import unittest
 
 from hearths import errors
 from hearths.branches import Branch
+from hearths.cottages import Cottage
 from hearths.errors import BadAnswer, BadFire, BadLooker, BadWoods
 from hearths.houses import House
 from hearths.lookers import beat_looker, run_looker
@@ -13,7 +14,8 @@ from tests.test_ways import raised
 from tests.wrong import FIRES, WOODS, check_errors, one_room
 
 NO_LOOKERS = [0, 7, -1, 10 ** 30, True, False, "", "a", None, [], ["a"], (), ("first", "a"), {}, {"a": 1}, H,
-              Branch(H, "a", W, {}), errors.HearthError(), BadAnswer("a"), errors.NoDoor("a", "b")]
+              Branch(H, "a", W, {}), errors.HearthError(), BadAnswer("a"), errors.NoDoor("a", "b"),
+              Cottage("a", 1)]
 
 
 class Watching:
