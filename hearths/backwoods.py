@@ -76,12 +76,13 @@ def wanting_pair(house, woods, book, first, room):
     _need_two(house, woods, book, first, room)
     stretches = stretches_of(house, book, first)
     wood = _wood_told(woods, room, stretches)
+    # Where there is a least wood, only stretches with the room want anything that is left.
     for stretch in stretches:
         left = _left_to(woods, room, stretch)
         if wood is None:
             found = left > 0 and room not in stretch.part
         else:
-            found = left == wood and wood > 1 and room in stretch.part
+            found = left == wood and wood > 1
         if found:
             return (stretch.one, stretch.other)
     return None

@@ -79,7 +79,7 @@ class Reading:
         return True
 
     def takes_door(self, parts):
-        if not 2 <= self.stage <= 3 or len(parts) != 3:
+        if len(parts) != 3:
             return False
         _, one, other = parts
         if one not in self.lots or other not in self.lots or one > other or self.lots[one] == self.lots[other]:

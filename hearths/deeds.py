@@ -54,11 +54,10 @@ def _build(state, deed):
     _, name, at, wood = deed
     if is_room(house, name):
         raise TakenRoom(name)
-    need_room(house, at)
     return (built_on(house, at, name), _with(woods, name, wood), book, hour, asked)
 
 
-def _lay(state, deed):
+def _laid(state, deed):
     house, woods, book, hour, asked = state
     _, room, many = deed
     need_room(house, room)
@@ -162,7 +161,7 @@ def _free(state, deed):
     return (house, woods, book, hour, tuple([(other, held) for other, held in asked if other != question]))
 
 
-DONE = {"build": _build, "lay": _lay, "pull": _pull, "note": _note, "strike": _strike, "wait": _wait, "make": _make,
+DONE = {"build": _build, "lay": _laid, "pull": _pull, "note": _note, "strike": _strike, "wait": _wait, "make": _make,
         "carry": _carry, "watch": _watch, "hold": _hold, "free": _free}
 
 

@@ -21,12 +21,10 @@ def lit_chances(house, woods, hours):
 
 
 def last_chances(house, woods):
-    need_woods(house, woods)
     return chances_of(last_counts(house, woods), count_fires(house, woods))
 
 
 def mean_last(house, woods):
-    need_woods(house, woods)
     return mean_of(last_counts(house, woods))
 
 
@@ -43,13 +41,11 @@ def surely_by(house, woods, chance):
     over, under = chance
     many = count_fires(house, woods)
     lit = 0
-    told = None
     for hour, just in last_counts(house, woods).items():
         lit += just
         if lit * under >= over * many:
-            told = hour
-            break
-    return told
+            return hour
+    return None
 
 
 def mean_burning(house, woods, hours):

@@ -27,14 +27,9 @@ def _lit_by(house, order):
 
 
 def _door_steps(house, woods, order):
-    """The dict from steps to the first room, in the order, that is lit by such a one."""
+    """The dict from the steps of the doors to a room that is lit by such a one."""
     places = places_in(order)
-    steps = {}
-    for room, before in _lit_by(house, order).items():
-        step = (places[before], places[room], woods[before])
-        if step not in steps:
-            steps[step] = room
-    return steps
+    return {(places[before], places[room], woods[before]): room for room, before in _lit_by(house, order).items()}
 
 
 def _all_steps(house, woods, order):

@@ -18,7 +18,7 @@ def _need_looker(thing):
 
 def _told_room(house, answer):
     """The room that an answer tells to be the first one, None if it tells none."""
-    if not is_row(answer) or len(answer) != 2 or not isinstance(answer[0], str) or answer[0] != "first":
+    if not is_row(answer) or len(answer) != 2 or answer[0] != "first":
         return None
     return answer[1] if is_room(house, answer[1]) else None
 

@@ -12,7 +12,7 @@ OF_A_ROOM = ("first", "early", "late")
 
 
 def is_question_of(house, thing):
-    if not is_row(thing) or len(thing) < 1 or not isinstance(thing[0], str):
+    if not is_row(thing):
         return False
     if len(thing) == 1:
         return thing[0] in OF_ALL

@@ -29,7 +29,7 @@ def _wrong_in_tour(house, thing):
             return at
         while here is not None and all([far in ahead for far in near[here]]):
             here = ahead[here]
-        if at > 0 and (here is None or room not in near[here]):
+        if at > 0 and room not in near[here]:
             return at
         ahead[room] = here
         here = room

@@ -77,9 +77,7 @@ def count_orders_of_all(pairs):
 
 
 def orders_behind(branches, lasts, far):
-    """In how many orders one can go on where one goes through a branch first."""
-    if len(branches) == 1:
-        return orders_of(branches, lasts)
+    """In how many orders one can go on where one goes through a branch first, the only one if it can be last."""
     return orders_of([other for other in branches if other != far], lasts)
 
 

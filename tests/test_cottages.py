@@ -481,6 +481,7 @@ class Ahead(unittest.TestCase):
         cottage = built(*BUILDING, *CARRYING)
         for thing in ALL:
             self.assertIs(raised(self, NoRoom, cottage.could_note, thing).thing, thing)
+            self.assertIs(raised(self, NoRoom, Cottage("a", 1).could_note, thing).thing, thing)
         self.assertIsNone(Cottage("a", 1).could_note("a"))
         self.assertEqual(Cottage("a", 1).mending_rooms(), [])
         self.assertIsNone(built(("note", "b", 4)).could_note("b"))

@@ -191,6 +191,9 @@ class Read(unittest.TestCase):
         self.bad("hour 0\nwatch fits\n", 2)
         self.bad("hour 0\nhour 0\n", 2)
         self.bad("room a 1\n", 1)
+        self.bad("hour 0\nroom a 1\nlit a 4\nroom b 1\ndoor a b\n", 4)
+        self.bad("hour 0\nroom a 1\nwatch fits\nroom b 1\ndoor a b\n", 4)
+        self.bad("hour 0\nroom a 1\nwatch fits\nlit a 1\n", 4)
 
     def test_doors(self):
         for line in ("door b a", "door a a", "door a z", "door z a", "door a", "door a b c", "door A b"):
